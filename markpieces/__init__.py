@@ -1,0 +1,1 @@
+"""Markpieces: pieces of texts told by patterns with marks."""

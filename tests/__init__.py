@@ -1,0 +1,1 @@
+"""Tests of markpieces: run `python3 -m unittest` at the top of the repository."""
