@@ -8,6 +8,11 @@ FUNCTIONS = {
     "signs": ("is_text(thing)", "is_name(thing)"),
     "patterns": ("shaped(thing)", "names_of(pattern)", "blank(pattern)"),
     "read": ("read(text)",),
+    "write": ("write(pattern)",),
+    "ways": ("way_end(pattern, text, way, at)", "way_holds(pattern, text, way)", "pieces_of(pattern, way, at)",
+             "row_of(pattern, way)"),
+    "judge": ("judged(pattern)",),
+    "order": ("marks_at(row, names, place)", "in_order(rows, names)"),
 }
 
 
