@@ -12,8 +12,20 @@ FUNCTIONS = {
     "ways": ("way_end(pattern, text, way, at)", "way_holds(pattern, text, way)", "pieces_of(pattern, way, at)",
              "row_of(pattern, way)"),
     "judge": ("judged(pattern)",),
+    "single": ("single(pattern)",),
+    "plain": ("rows_of(pattern, text)", "ways_to(pattern, text, row, *, most=2)"),
     "order": ("marks_at(row, names, place)", "in_order(rows, names)"),
+    "tables": ("joined(one, other)", "either(one, other)", "without(one, other)", "only(table, names)",
+               "same(table, one, other, text)"),
+    "plans": ("names_in(plan)", "fault_of(plan)"),
+    "meaning": ("meaning(plan, text)", "parted(plan, other, *, signs='ab', most=3)"),
 }
+
+CLASSES = {
+    "tables": {"Table(names, rows)": ("__len__", "__eq__", "__str__")},
+}
+
+VALUES = {"signs": ("SIGNS", "LONG"), "plain": ("MOST",), "meaning": ("SOME", "LONGEST")}
 
 
 class Interface(unittest.TestCase):
@@ -24,6 +36,22 @@ class Interface(unittest.TestCase):
                 function = getattr(module, line.partition("(")[0])
                 self.assertEqual(function.__module__, module.__name__, line)
                 self.assertEqual(f"{function.__name__}{inspect.signature(function)}", line)
+
+    def test_classes_stand_in_their_files_with_methods_of_their_own(self):
+        for file, told in CLASSES.items():
+            module = importlib.import_module(f"markpieces.{file}")
+            for line, methods in told.items():
+                one = getattr(module, line.partition("(")[0])
+                self.assertEqual(one.__module__, module.__name__, line)
+                self.assertEqual(f"{one.__name__}{inspect.signature(one)}", line)
+                for method in methods:
+                    self.assertIn(method, vars(one), line)
+
+    def test_values_stand_in_their_files(self):
+        for file, told in VALUES.items():
+            module = importlib.import_module(f"markpieces.{file}")
+            for name in told:
+                self.assertIn(type(getattr(module, name)), (int, str), name)
 
 
 if __name__ == "__main__":

@@ -7,26 +7,7 @@ from markpieces.patterns import names_of
 from markpieces.read import read
 from markpieces.signs import is_text
 from markpieces.ways import pieces_of, way_holds
-from tests.helpers import chance_patterns, inner, is_idle, small_patterns, texts, whole_ways
-
-
-def names_within(pattern):
-    """The names of the marks within, each as often as it stands there."""
-    own = [pattern[1]] if pattern[0] == "mark" else []
-    return own + [name for part in inner(pattern) for name in names_within(part)]
-
-
-def marks_twice(pattern):
-    """The last words of [12]: two parts of a row, a mark of that name, a some with high None."""
-    parts = inner(pattern)
-    if any(marks_twice(part) for part in parts):
-        return True
-    if pattern[0] == "row":
-        seen = [name for part in parts for name in set(names_within(part))]
-        return len(seen) > len(set(seen))
-    if pattern[0] == "mark":
-        return pattern[1] in names_within(pattern[2])
-    return pattern[0] == "some" and pattern[2] is None and names_within(pattern) != []
+from tests.helpers import chance_patterns, is_idle, marks_twice, small_patterns, texts, whole_ways
 
 
 class Judged(unittest.TestCase):

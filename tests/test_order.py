@@ -1,36 +1,11 @@
 """[14]: marks, and the told order."""
 
-import functools
 import itertools
 import random
 import unittest
 
 from markpieces.order import in_order, marks_at
-
-
-def plain_marks(row, names, place):
-    """The marks at a place, by the words of [14]."""
-    found = [(name, 0) for name, piece in zip(names, row) if piece is not None and piece[0] == place]
-    found += [(name, 1) for name, piece in zip(names, row) if piece is not None and piece[1] == place]
-    return tuple(sorted(found))
-
-
-def plain_order(names):
-    """A key for sorted that compares two rows place by place."""
-    def compared(one, other):
-        for place in range(220):
-            marks, others = plain_marks(one, names, place), plain_marks(other, names, place)
-            if marks != others:
-                if marks == () or others == ():
-                    return 1 if marks == () else -1
-                return -1 if marks < others else 1
-        return 0
-    return functools.cmp_to_key(compared)
-
-
-def pieces(most):
-    """None, and all pieces of a text of so many signs."""
-    return [None] + [(begin, end) for begin in range(most + 1) for end in range(begin, most + 1)]
+from tests.helpers import pieces, plain_marks, plain_order
 
 
 class Marks(unittest.TestCase):
