@@ -1,6 +1,6 @@
 """Patterns: what they are made of, their names, and whether they go through nothing."""
 
-from markpieces.kinds import is_number
+from markpieces.kinds import is_number, rise
 from markpieces.signs import SIGNS, all_among, is_name
 
 MOST_FORMS = 60
@@ -55,7 +55,7 @@ def are_signs(thing):
     """Whether thing is a text of one or more unlike signs, rising."""
     if not isinstance(thing, str) or not 1 <= len(thing) <= len(SIGNS):
         return False
-    return all_among(thing, SIGNS) and all([one < other for one, other in zip(thing, thing[1:])])
+    return all_among(thing, SIGNS) and rise(thing)
 
 
 def are_parts(kind, thing):

@@ -75,8 +75,6 @@ class Trails:
 
     def paths(self, most):
         """A list of unlike paths, lists of edges: all there are, but at most so many."""
-        if (FIRST, 0) not in self.alive[0]:
-            return []
         # Whatever is alive leads to the end, so it does no harm to keep only so many at each place.
         begun = [((), FIRST)]
         for place in range(len(self.asked)):

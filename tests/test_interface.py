@@ -19,6 +19,10 @@ FUNCTIONS = {
                "same(table, one, other, text)"),
     "plans": ("names_in(plan)", "fault_of(plan)"),
     "meaning": ("meaning(plan, text)", "parted(plan, other, *, signs='ab', most=3)"),
+    "machines": ("is_machine(thing)",),
+    "runs": ("run_holds(machine, text, row, run)", "bar_holds(machine, text, row, bar)", "why(machine, text, row)"),
+    "made": ("made(pattern)",),
+    "deeds": ("joint(one, other)", "choice(one, other)", "few(machine, names)", "rest(one, other)"),
 }
 
 CLASSES = {

@@ -58,7 +58,7 @@ class Rows(unittest.TestCase):
         self.assert_rows("<x:(a|aa|a*b?a)*>c", "a" * 199 + "c", (((0, 199),),))
         deep = "(" * 9 + "a+" + ")+" * 9
         self.assert_rows(deep + "<x:b>?", "a" * 150, ((None,),))
-        self.assert_rows("(|)(|)(|)(|)(|)(|)(|)(|)(|)(|)(|)(|)(|)(|)(|)(|)<x:a*>", "a" * 100, (((0, 100),),))
+        self.assert_rows("(||)" * 14 + "<x:a*>", "a" * 100, (((0, 100),),))
 
     def test_beginnings_that_come_to_nothing(self):
         self.assert_rows("<w:.*><x:.*><y:.*><z:.*>b", "a" * 200, ())
@@ -139,6 +139,13 @@ class Ways(unittest.TestCase):
         self.assertEqual(ways_to(read("a"), "", ()), ())
         self.assertEqual(ways_to(read("<x:>"), "", (None,)), ())
 
+    def test_just_the_marks_of_the_row_at_each_place(self):
+        pattern = read("a*(<x:>|)a*")
+        for place in range(4):
+            way = (tuple(range(place)), (0, ()), tuple(range(place, 3)))
+            self.assertEqual(ways_to(pattern, "aaa", ((place, place),), most=100), (way,))
+        self.assertEqual(len(ways_to(pattern, "aaa", (None,), most=100)), 4)
+
     def test_a_piece_beyond_the_text_is_the_row_of_none(self):
         self.assertEqual(ways_to(read("<x:a>|a"), "a", ((0, 2),)), ())
         self.assertEqual(ways_to(read("<x:a>|a"), "a", ((2, 2),)), ())
@@ -146,7 +153,8 @@ class Ways(unittest.TestCase):
     def test_very_many_ways(self):
         cases = (("(a|a)*<x:b>(a|a|aa)*", "a" * 99 + "b" + "a" * 100, ((99, 100),)),
                  ("(" * 9 + "a+" + ")+" * 9, "a" * 200, ()),
-                 ("(|)(|)(|)(|)(|)(|)(|)(|)(|)(|)(|)(|)(|)(|)(|)(|)<x:a*>", "a" * 100, ((0, 100),)),
+                 ("(||)" * 14 + "<x:a*>", "a" * 100, ((0, 100),)),
+                 ("<x:a*>" + "(||)" * 14, "a" * 100, ((0, 100),)),
                  ("(a+|a|aa*)*<x:a?>", "a" * 120, ((120, 120),)))
         for text, through, row in cases:
             pattern = read(text)
