@@ -84,6 +84,8 @@ class Trails:
                 if station not in known:
                     known[station] = self.through(place, station, most)
                 longer.extend([((*stretches, edges), other) for edges, other in known[station]])
+                if len(longer) >= most:
+                    break
             begun = longer[:most]
         return [in_one(stretches) for stretches, station in begun]
 
