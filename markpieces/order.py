@@ -29,3 +29,16 @@ def rank(row, names):
     places = [place for piece in row if piece is not None for place in piece]
     marked = [(0, place, marks_at(row, names, place)) for place in sorted(set(places))]
     return (*marked, (1,))
+
+
+def row_by(marks_by_place, names):
+    """The row, of these names, with these marks at the places from 0 on."""
+    begins = {}
+    pieces = {}
+    for place, marks in enumerate(marks_by_place):
+        for name, which in marks:
+            if which == 0:
+                begins[name] = place
+            else:
+                pieces[name] = (begins[name], place)
+    return tuple([pieces.get(name) for name in names])

@@ -37,9 +37,7 @@ def why(machine, text, row):
     """("run", some run) where the machine tells the row for the text, else ("bar", some bar)."""
     leads = Leads(machine)
     turns = turns_of(machine[0], text, row)
-    sets = [leads.starts]
-    for turn in turns:
-        sets.append(states_behind(leads, sets[-1], turn))
+    sets = sets_along(leads, turns)
     ends = bits_in(sets[-1] & leads.ends)
     if ends:
         return ("run", run_to(ends[0], leads, turns, sets))
@@ -56,10 +54,20 @@ def turns_of(names, text, row):
     return turns
 
 
+def sets_along(leads, turns):
+    """A list of the states, as bits, in which a run can be: at first, and behind each of the turns."""
+    sets = [leads.starts]
+    for turn in turns:
+        sets.append(states_behind(leads, sets[-1], turn))
+    return sets
+
+
 def states_behind(leads, states, turn):
-    """The states, as bits, to which the turn, a sign or marks, leads from some of these."""
+    """The states, as bits, to which the turn leads from some of these: a sign, marks, None for whatever marks."""
     if isinstance(turn, str):
         return leads.behind_sign(states, turn)
+    if turn is None:
+        return leads.behind_any(states)
     return leads.behind_marks(states, turn)
 
 

@@ -23,10 +23,15 @@ FUNCTIONS = {
     "runs": ("run_holds(machine, text, row, run)", "bar_holds(machine, text, row, bar)", "why(machine, text, row)"),
     "made": ("made(pattern)",),
     "deeds": ("joint(one, other)", "choice(one, other)", "few(machine, names)", "rest(one, other)"),
+    "ahead": ("ahead(machine, text, name)", "shut_holds(machine, text, name, thing)"),
+    "likeness": ("alike_holds(one, other, thing)", "part_holds(one, other, thing)"),
 }
 
 CLASSES = {
     "tables": {"Table(names, rows)": ("__len__", "__eq__", "__str__")},
+    "walk": {"Walk(edges, depth)": ("more(self)",)},
+    "told": {"Told(machine, text)": ("more(self)", "opened(self)", "sofar(self)", "left(self)",
+                                     "each(self, tell, *, most=None)")},
 }
 
 VALUES = {"signs": ("SIGNS", "LONG"), "plain": ("MOST",), "meaning": ("SOME", "LONGEST")}
@@ -49,7 +54,10 @@ class Interface(unittest.TestCase):
                 self.assertEqual(one.__module__, module.__name__, line)
                 self.assertEqual(f"{one.__name__}{inspect.signature(one)}", line)
                 for method in methods:
-                    self.assertIn(method, vars(one), line)
+                    name, bracket, arguments = method.partition("(")
+                    self.assertIn(name, vars(one), line)
+                    if bracket:
+                        self.assertEqual(str(inspect.signature(vars(one)[name])), bracket + arguments)
 
     def test_values_stand_in_their_files(self):
         for file, told in VALUES.items():
