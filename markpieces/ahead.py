@@ -2,7 +2,7 @@
 
 from markpieces.bits import bits_in, bits_of
 from markpieces.lanes import lanes_along
-from markpieces.leads import moves_from, led, put_in_one
+from markpieces.leads import led, moves_from, put_in_one
 from markpieces.machines import are_states, marks_between
 from markpieces.naming import refuse_lacking
 from markpieces.order import row_by

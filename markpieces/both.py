@@ -26,9 +26,25 @@ class Both:
         """The pair behind a read of the sign."""
         return (self.one.behind_sign(pair[0], sign), self.other.behind_sign(pair[1], sign))
 
-    def ending(self, pair):
-        """For each of the two whether it has an end in the pair."""
-        return ((pair[0] & self.one.ends) != 0, (pair[1] & self.other.ends) != 0)
+    def odd_end(self, pair):
+        """(marks, which): behind these marks just that one has an end; None where there are no such marks."""
+        for marks in self.marks:
+            states, others = self.behind_marks(pair, marks)
+            has_end = (states & self.one.ends) != 0
+            if has_end != ((others & self.other.ends) != 0):
+                return (marks, 0 if has_end else 1)
+        return None
+
+    def pairs_on(self, pair):
+        """A list of (pair, marks, sign): to which pairs the two come next, and by what, but to the empty one."""
+        found = []
+        for marks in self.marks:
+            between = self.behind_marks(pair, marks)
+            for sign in self.signs:
+                further = self.behind_sign(between, sign)
+                if further != (0, 0):
+                    found.append((further, marks, sign))
+        return found
 
 
 def signs_apart(reads):

@@ -1,7 +1,8 @@
 """What a machine can do along a text that goes on sign by sign, and the walk through its rows."""
 
 from markpieces.bits import bits_in, bits_of
-from markpieces.leads import Leads, moves_from, led
+from markpieces.leads import Leads, led, moves_from
+from markpieces.order import row_by
 from markpieces.walk import Walk
 
 
@@ -50,6 +51,17 @@ def walk_through(lanes):
     """A walk whose ways are, in the told order, the marks of each row at all places."""
     able = able_behind(lanes)
     return Walk(lambda node: marks_on(lanes, able, node), len(able))
+
+
+def rows_along(lanes, names):
+    """A list of all rows of these names, in the told order."""
+    walk = walk_through(lanes)
+    rows = []
+    way = walk.more()
+    while way is not None:
+        rows.append(row_by(way, names))
+        way = walk.more()
+    return rows
 
 
 def marks_on(lanes, able, node):

@@ -34,16 +34,7 @@ def is_pair(thing, count, other_count):
 
 def goes_on_within(both, pair, pairs):
     """Whether no marks part the pair, and all that it comes to next is among the pairs or empty."""
-    for marks in both.marks:
-        between = both.behind_marks(pair, marks)
-        has_end, other_has = both.ending(between)
-        if has_end != other_has:
-            return False
-        for sign in both.signs:
-            further = both.behind_sign(between, sign)
-            if further != (0, 0) and further not in pairs:
-                return False
-    return True
+    return both.odd_end(pair) is None and all([further in pairs for further, marks, sign in both.pairs_on(pair)])
 
 
 def part_holds(one, other, thing):

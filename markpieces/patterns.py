@@ -2,6 +2,7 @@
 
 from markpieces.kinds import is_number, rise
 from markpieces.signs import SIGNS, all_among, is_name
+from markpieces.trees import depth_within, forms_within
 
 MOST_FORMS = 60
 MOST_DEEP = 12
@@ -82,15 +83,12 @@ def parts_of(form):
 
 def forms_of(pattern):
     """A list of all forms of the pattern, itself among them."""
-    forms = [pattern]
-    for part in parts_of(pattern):
-        forms.extend(forms_of(part))
-    return forms
+    return forms_within(pattern, parts_of)
 
 
 def depth_of(pattern):
     """How many forms stand within one another, the pattern itself counted."""
-    return 1 + max([depth_of(part) for part in parts_of(pattern)], default=0)
+    return depth_within(pattern, parts_of)
 
 
 def names_of(pattern):

@@ -4,6 +4,9 @@ from markpieces.judge import judged
 from markpieces.naming import all_names
 from markpieces.patterns import MOST_NAMES, names_of
 
+MOST_PLANS = 12
+MOST_DEEP_PLAN = 6
+
 
 def plans_within(plan):
     """A tuple of the plans that stand right within this one."""

@@ -4,38 +4,21 @@ from markpieces.bits import bits_in
 from markpieces.net import Net, marked
 from markpieces.plain import ways_to
 from markpieces.rails import FIRST, LAST
+from markpieces.search import searched
 
 
 def single(pattern):
     """("single",), or ("double", text, way, other): two ways through the text with the same row."""
     net = Net(pattern)
-    text, row = doubled(net)
-    if text is None:
+    # Two ways go on side by side, by the same marks and signs: a pair is where both are, and
+    # whether they are unlike so far.
+    first = (FIRST, FIRST, False)
+    pairs, turns, marks = searched(first, lambda pair: last_marks(net, pair), lambda one: pairs_behind(net, one))
+    if turns is None:
         return ("single",)
+    text, row = told_by(net, turns, marks)
     way, other = ways_to(pattern, text, row, most=2)
     return ("double", text, way, other)
-
-
-def doubled(net):
-    """A shortest text, and a row, to which two ways lead; None and None where there are none.
-
-    Two ways go on side by side, by the same marks and signs: a pair is where both are, and
-    whether they are unlike so far. came has, of each pair, how it was come to.
-    """
-    waiting = [(FIRST, FIRST, False)]
-    came = {waiting[0]: None}
-    at = 0
-    while at < len(waiting):
-        pair = waiting[at]
-        marks = last_marks(net, pair)
-        if marks is not None:
-            return told_by(net, came, pair, marks)
-        for further, between, sign in pairs_behind(net, pair):
-            if further not in came:
-                came[further] = (pair, between, sign)
-                waiting.append(further)
-        at += 1
-    return None, None
 
 
 def last_marks(net, pair):
@@ -68,15 +51,9 @@ def pairs_behind(net, pair):
     return found
 
 
-def told_by(net, came, pair, marks):
-    """The text and the row of what led to the pair and ends with these marks."""
-    text = ""
-    marks_from_last = [marks]
-    while came[pair] is not None:
-        pair, between, sign = came[pair]
-        text = sign + text
-        marks_from_last.append(between)
+def told_by(net, turns, marks):
+    """The text and the row of these turns, each (marks, sign), with these marks at the end."""
     row = (None,) * len(net.names)
-    for place, told in enumerate(marks_from_last[::-1]):
-        row = marked(row, told, place)
-    return text, row
+    for place, (between, sign) in enumerate([*turns, (marks, "")]):
+        row = marked(row, between, place)
+    return "".join([sign for between, sign in turns]), row

@@ -25,6 +25,9 @@ FUNCTIONS = {
     "deeds": ("joint(one, other)", "choice(one, other)", "few(machine, names)", "rest(one, other)"),
     "ahead": ("ahead(machine, text, name)", "shut_holds(machine, text, name, thing)"),
     "likeness": ("alike_holds(one, other, thing)", "part_holds(one, other, thing)"),
+    "alike": ("alike(one, other)",),
+    "rules": ("moved(plan, move)", "led(plan, moves)"),
+    "lowering": ("lowered(plan)",),
 }
 
 CLASSES = {
@@ -32,9 +35,14 @@ CLASSES = {
     "walk": {"Walk(edges, depth)": ("more(self)",)},
     "told": {"Told(machine, text)": ("more(self)", "opened(self)", "sofar(self)", "left(self)",
                                      "each(self, tell, *, most=None)")},
+    "desk": {"Desk(plan, *, text='')": ("table(self)", "shows(self)", "__len__", "__eq__", "__str__",
+                                        "edit(self, at, *, cut=0, put='')", "back(self)", "tried(self, edits, *, tell=None)",
+                                        "log(self)")},
+    "feed": {"Feed(machine)": ("feed(self, text)", "fed(self)", "sees(self)", "open_names(self)", "live(self)", "__len__")},
 }
 
-VALUES = {"signs": ("SIGNS", "LONG"), "plain": ("MOST",), "meaning": ("SOME", "LONGEST")}
+VALUES = {"signs": ("SIGNS", "LONG"), "plain": ("MOST",), "meaning": ("SOME", "LONGEST"),
+          "desk": ("LINES", "BACKS")}
 
 
 class Interface(unittest.TestCase):
