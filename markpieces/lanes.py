@@ -74,7 +74,7 @@ def marks_on(lanes, able, node):
     for state in bits_in(states):
         for marks, others in lanes.onward.get(state, []):
             found[marks] = found.get(marks, 0) | (others & able[place])
-    told = sorted([marks for marks in found if found[marks] != 0], key=lambda marks: (marks == (), marks))
+    told = sorted([marks for marks in found if found[marks] != 0], key=lambda one: (one == (), one))
     return tuple([(marks, (place + 1, states_behind_sign(lanes, place, found[marks]))) for marks in told])
 
 

@@ -70,6 +70,14 @@ class Feeds(unittest.TestCase):
                 feed.feed(text[len(feed):])
                 self.assert_fed(feed, machine, text)
 
+    def test_ends_that_are_some_signs_ahead(self):
+        machine = ((), ((),) * 4, (3,), (0,), ((1, (), 2),), ((2, "a", 0), (3, "ab", 1)))
+        for text, live in (("", True), ("b", True), ("ba", True), ("bb", False), ("baa", False), ("c", False)):
+            feed = Feed(machine)
+            feed.feed(text)
+            self.assertIs(feed.live(), live, text)
+            self.assert_fed(feed, machine, text)
+
     def test_two_hundred_signs_at_once_and_one_more(self):
         pattern = read("a*<x:b>[ab]*")
         text = "a" * 150 + "b" * 50

@@ -176,6 +176,33 @@ class Language(unittest.TestCase):
                     fits = fits or called(up) in TAKERS
                     self.assertTrue(fits, (file, node.lineno))
 
+    def test_what_stands_in_finally(self):
+        for file, tree in trees():
+            for node in of_kind(tree, ast.Try):
+                self.assertEqual(node.handlers, [], (file, node.lineno))
+                for one in node.finalbody:
+                    fits = isinstance(one, ast.Assign) and len(one.targets) == 1
+                    if isinstance(one, ast.Expr) and isinstance(one.value, ast.Call):
+                        fits = isinstance(one.value.func, ast.Attribute) and one.value.func.attr == "append"
+                    self.assertTrue(fits, (file, one.lineno))
+                    values = one.value.args if isinstance(one, ast.Expr) else [one.value]
+                    for inner in [inner for value in values for inner in ast.walk(value)]:
+                        plain = (ast.Name, ast.Attribute, ast.Constant, ast.Tuple, ast.List, ast.Load)
+                        self.assertIsInstance(inner, plain, (file, one.lineno))
+
+    def test_lambdas_on_one_line_have_parameters_of_other_names(self):
+        for file, tree in trees():
+            told = [(node.lineno, [one.arg for one in node.args.args]) for node in of_kind(tree, ast.Lambda)]
+            self.assertTrue(all(told.count(one) == 1 for one in told), file)
+
+    def test_values_at_module_level_are_plain_and_no_list_stands_in_another(self):
+        plain = (ast.Constant, ast.Tuple, ast.List, ast.Dict, ast.Load, ast.UnaryOp, ast.USub)
+        for file, tree in trees():
+            for node in [one for one in tree.body if isinstance(one, ast.Assign)]:
+                inner = list(ast.walk(node.value))
+                self.assertTrue(all(isinstance(one, plain) for one in inner), (file, node.lineno))
+                self.assertFalse(any(isinstance(one, (ast.List, ast.Dict)) for one in inner[1:]), (file, node.lineno))
+
     def test_sets_stand_where_they_may(self):
         for file, tree in trees():
             for node in of_kind(tree, ast.Call, ast.SetComp, ast.Set):

@@ -193,6 +193,8 @@ class Moves(unittest.TestCase):
         self.assertEqual(led(plan, moves), ("either", ("join", P, R), ("join", Q, P)))
         self.assertEqual(led(plan, tuple(moves)), ("either", ("join", P, R), ("join", Q, P)))
         self.assertEqual(moves, [((), 4, 0), ((), 2, 0), ((1,), 0, 0)])
+        for thing in (None, 0, [()], [None]):
+            self.assertRaises(NoMove, led, plan, thing)
         for at in range(4):
             for wrong in (None, ((), 6, 1), ((), 20, 0), [(), 7, 1], ((5,), 7, 1)):
                 self.assertRaises(NoMove, led, plan, moves[:at] + [wrong] + moves[at:])
