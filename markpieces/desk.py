@@ -1,6 +1,7 @@
 """Desks: a plan over a text that is edited."""
 
-from markpieces.errors import Busy, NothingBack, Outside, Unsound
+from markpieces.busy import refuse_busy
+from markpieces.errors import NothingBack, Outside, Unsound
 from markpieces.meaning import Readied, table_for
 from markpieces.plans import fault_of
 from markpieces.putting import refuse_put
@@ -50,21 +51,21 @@ class Desk:
 
     def edit(self, at, *, cut=0, put=""):
         """Takes out cut signs from place at on, puts put there; tells (gone, come)."""
-        self.refuse_busy()
+        refuse_busy(self.busy)
         text = edited(self.text, at, cut, put)
         self.keep(self.text)
         return self.turn_to(text)
 
     def back(self):
         """Undoes the last edit that stands; tells (gone, come)."""
-        self.refuse_busy()
+        refuse_busy(self.busy)
         if self.earlier == []:
             raise NothingBack()
         return self.turn_to(self.earlier.pop())
 
     def tried(self, edits, *, tell=None):
         """Does all of the edits, one behind another, as one, or none of them; tells (gone, come)."""
-        self.refuse_busy()
+        refuse_busy(self.busy)
         to_do = [tuple(one) for one in edits]
         before = self.table_now()
         first = standing = self.text
@@ -87,11 +88,6 @@ class Desk:
     def log(self):
         """A tuple of the last LINES entries that tried left, oldest first."""
         return tuple(self.entries[-LINES:])
-
-    def refuse_busy(self):
-        """Raises Busy while tried is at it."""
-        if self.busy:
-            raise Busy()
 
     def table_now(self):
         """The table of the text as it is, which isn't to be handed out."""

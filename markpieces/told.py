@@ -1,6 +1,6 @@
 """The rows of a machine for a text, told one by one."""
 
-from markpieces.errors import Busy
+from markpieces.busy import refuse_busy
 from markpieces.lanes import lanes_along, walk_through
 from markpieces.order import row_by
 from markpieces.walk import ways_left
@@ -17,7 +17,7 @@ class Told:
 
     def more(self):
         """The next row; None where there is none left."""
-        self.refuse_busy()
+        refuse_busy(self.busy)
         return self.next_row()
 
     def opened(self):
@@ -34,7 +34,7 @@ class Told:
 
     def each(self, tell, *, most=None):
         """Calls tell with each of the rows that are left, at most most of them; tells how many it was."""
-        self.refuse_busy()
+        refuse_busy(self.busy)
         before = self.many
         self.busy = True
         try:
@@ -46,11 +46,6 @@ class Told:
         finally:
             self.busy = False
         return self.many - before
-
-    def refuse_busy(self):
-        """Raises Busy while each is at it."""
-        if self.busy:
-            raise Busy()
 
     def next_row(self):
         """The next row, which counts as told; None where there is none left."""
